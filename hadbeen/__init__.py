@@ -1,0 +1,1 @@
+"""Hadbeen: what would have been, had one thing been otherwise."""

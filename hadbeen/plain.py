@@ -1,4 +1,4 @@
-"""Whole numbers, values and names, and how they are written."""
+"""Whole numbers, values and names, how they are written, and the addresses and places made of them."""
 
 LETTERS = "abcdefghijklmnopqrstuvwxyz"
 FIGURES = "0123456789"
@@ -39,3 +39,17 @@ def is_number_text(text):
     if not 1 <= len(text) <= MOST_FIGURES or not is_made_of(text, FIGURES):
         return False
     return text == "0" or not text.startswith("0")
+
+
+def is_address(thing):
+    return isinstance(thing, tuple) and all([is_whole(number) and number >= 0 for number in thing])
+
+
+def is_start_place(thing):
+    if not isinstance(thing, tuple) or len(thing) not in (2, 3):
+        return False
+    if len(thing) == 2:
+        return thing[0] == "cell" and is_value(thing[1])
+    if thing[0] == "box":
+        return thing[1] == () and is_name(thing[2])
+    return thing[0] == "world" and is_name(thing[1]) and is_value(thing[2])

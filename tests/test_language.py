@@ -27,6 +27,11 @@ OUT_PIECES = ("dataclass", "overload", "contextmanager")
 OUT_NAMES = set(
     "register mro elements open input version_info with_traceback add_note format format_map chr".split()
 )
+OWN_METHODS = set(
+    "append clear copy count endswith extend find get index insert isalnum isalpha isdigit islower isspace isupper "
+    "items join keys ljust lower lstrip partition pop remove replace reverse rfind rjust rpartition rsplit rstrip "
+    "setdefault split splitlines startswith strip update upper values zfill bit_length".split()
+)
 OUT_NODES = (
     ast.With, ast.AsyncWith, ast.AsyncFor, ast.AsyncFunctionDef, ast.Await, ast.Delete, ast.Global, ast.Nonlocal,
     ast.Assert, ast.Yield, ast.YieldFrom, ast.Match, ast.SetComp, ast.DictComp, ast.GeneratorExp, ast.NamedExpr,
@@ -162,6 +167,23 @@ class NamesTest(unittest.TestCase):
                 if name not in METHODS:
                     self.assertRegex(name, r"\A[A-Za-z][A-Za-z0-9_]*\Z", where)
                 self.assertNotIn(name, OUT_NAMES, where)
+
+    def test_methods_that_are_called(self):
+        own = {part.name for where, node in nodes() if isinstance(node, ast.ClassDef)
+               for part in node.body if isinstance(part, ast.FunctionDef)}
+        for where, node in nodes():
+            if isinstance(node, ast.Call) and isinstance(node.func, ast.Attribute):
+                self.assertIn(node.func.attr, own | OWN_METHODS, where)
+
+    def test_no_local_is_called_like_a_class_or_an_import_of_its_file(self):
+        for path, tree in trees():
+            taken = [name for part in tree.body if isinstance(part, (ast.ClassDef, ast.ImportFrom))
+                     for name in names_bound(part)]
+            for node in ast.walk(tree):
+                if isinstance(node, ast.arg):
+                    self.assertNotIn(node.arg, taken, path.name)
+                if isinstance(node, ast.Name) and isinstance(node.ctx, ast.Store):
+                    self.assertNotIn(node.id, taken, path.name)
 
     def test_no_name_is_a_method_here_and_a_value_there(self):
         methods, values = set(), set()

@@ -1,8 +1,8 @@
-"""Whole numbers, values, names [0.3, 1.1, 1.2]."""
+"""Whole numbers, values, names, addresses, places of a start [0.3, 1.1, 1.2, 3.1, 3.2]."""
 
 import unittest
 
-from hadbeen.plain import as_value, is_name, is_number_text, is_value, is_whole
+from hadbeen.plain import as_value, is_address, is_name, is_number_text, is_start_place, is_value, is_whole
 
 LANGUAGE = (
     "skip set put ask draw tell if else end while call fun main give "
@@ -59,6 +59,32 @@ class FiguresTest(unittest.TestCase):
         for text in ("", "00", "01", "000001", "1000000", "0000000", "+1", "-1", "1_0", "1.", " 1", "1 ",
                      "1\n", "a", "\u00b2", "\u0661"):
             self.assertIs(is_number_text(text), False, text)
+
+
+class AddressesTest(unittest.TestCase):
+    def test_addresses(self):
+        for thing in ((), (0,), (3, 0, 12), (10 ** 39,)):
+            self.assertIs(is_address(thing), True, thing)
+
+    def test_what_is_no_address(self):
+        for thing in (None, 0, "", "3", [], [3], {}, (-1,), (0, -1), (True,), (0, False), ("0",), ((0,),), (None,)):
+            self.assertIs(is_address(thing), False, thing)
+
+
+class PlacesTest(unittest.TestCase):
+    def test_places_of_a_start(self):
+        for thing in (("box", (), "a"), ("cell", 0), ("cell", 999999), ("world", "w", 0), ("world", "abcdef", 999999)):
+            self.assertIs(is_start_place(thing), True, thing)
+
+    def test_other_places(self):
+        for thing in (("box", (3,), "a"), ("drawn", "w")):
+            self.assertIs(is_start_place(thing), False, thing)
+
+    def test_what_is_no_place(self):
+        for thing in (None, "cell", (), ("cell",), ("cell", 1, 1), ("cell", True), ("cell", -1), ["cell", 1],
+                      ("box", "a"), ("box", [], "a"), ("box", (), "if"), ("world", "w"), ("world", "w", 1000000),
+                      ("world", "end", 1), ("other", 1), ("other", (), "a")):
+            self.assertIs(is_start_place(thing), False, thing)
 
 
 if __name__ == "__main__":

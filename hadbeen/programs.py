@@ -9,14 +9,23 @@ MOST_LINES = 60
 MOST_FUNCTIONS = 4
 MOST_PARAMETERS = 3
 MOST_BLOCKS = 5
+# No function can be called so: it is a word of the language.
+MAIN = "main"
 
 
 class Program:
-    """The lines of a program, and the row of each line that has one."""
+    """The lines of a program, the row of each line that has one, and how the rows hang together.
 
-    def __init__(self, lines, rows):
+    A block is known by the line of its choice or loop with 0, or 1 behind else; by the name of its function; or as
+    MAIN. It has the numbers of its rows' lines, a function's give among them. Heads have each function's parameters.
+    """
+
+    def __init__(self, lines, rows, blocks, heads):
         self.given = tuple(lines)
         self.rows = dict(rows)
+        self.blocks = dict(blocks)
+        self.heads = dict(heads)
+        self.follows = followers(self.blocks)
 
     def text(self):
         return "\n".join(self.given)
@@ -30,6 +39,13 @@ class Program:
     def has_row(self, number):
         # Asked first, since Python would find line 1 by True.
         return is_whole(number) and number in self.rows
+
+    def first_row(self, block):
+        numbers = self.blocks[block]
+        return numbers[0] if numbers else None
+
+    def next_row(self, number):
+        return self.follows.get(number)
 
     def with_line(self, number, line):
         if not self.has_row(number):
@@ -55,8 +71,8 @@ class LineReader:
         self.given = tuple(lines)
         self.taken = 0
         self.rows = {}
-        # How many parameters each function has.
-        self.counts = {}
+        self.blocks = {}
+        self.heads = {}
 
     def is_over(self):
         return self.taken == len(self.given)
@@ -78,31 +94,37 @@ class LineReader:
 
     def take_row(self):
         number = self.taken
-        row = read_row(self.take_line())
-        self.rows[number] = row
-        return row
+        self.rows[number] = read_row(self.take_line())
+        return number
 
     def take_rows(self, room):
+        numbers = []
         while self.first_word() in FORMS and self.first_word() != "give":
-            row = self.take_row()
-            if row.kind in ("if", "while"):
-                self.take_blocks(row.kind, room)
+            number = self.take_row()
+            numbers.append(number)
+            if self.rows[number].kind in ("if", "while"):
+                self.take_blocks(number, room)
+        return tuple(numbers)
 
-    def take_blocks(self, kind, room):
+    def take_blocks(self, number, room):
         # Asked ahead of the rows, so that no text leads deeper than a program may go.
         if room == 0:
             raise NoProgram("too many choices and loops stand within one another")
-        self.take_rows(room - 1)
-        if kind == "if":
+        self.blocks[(number, 0)] = self.take_rows(room - 1)
+        if self.rows[number].kind == "if":
             self.take_only("else")
-            self.take_rows(room - 1)
+            self.blocks[(number, 1)] = self.take_rows(room - 1)
         self.take_only("end")
 
     def take_function(self):
-        self.take_head()
-        self.take_rows(MOST_BLOCKS)
+        name = self.take_head()
+        numbers = self.take_rows(MOST_BLOCKS)
         # Of all rows, only a give stops the rows ahead of it, so no other one is taken here.
-        self.take_row()
+        self.blocks[name] = numbers + (self.take_row(),)
+
+    def take_main(self):
+        self.take_only(MAIN)
+        self.blocks[MAIN] = self.take_rows(MOST_BLOCKS)
 
     def take_head(self):
         reader = Reader(self.take_line())
@@ -111,11 +133,12 @@ class LineReader:
         parameters = []
         while not reader.is_done():
             parameters.append(reader.take_name())
-        if name in self.counts:
+        if name in self.heads:
             raise NoProgram(f"two functions are called {name!r}")
         if len(parameters) > MOST_PARAMETERS or len(set(parameters)) < len(parameters):
             raise NoProgram(f"{name!r} has too many parameters, or two of one name")
-        self.counts[name] = len(parameters)
+        self.heads[name] = tuple(parameters)
+        return name
 
 
 def read_program(text):
@@ -127,18 +150,24 @@ def read_program(text):
     reader = LineReader(lines)
     while reader.first_word() == "fun":
         reader.take_function()
-    if len(reader.counts) > MOST_FUNCTIONS:
+    if len(reader.heads) > MOST_FUNCTIONS:
         raise NoProgram("a program has too many functions")
-    reader.take_only("main")
-    reader.take_rows(MOST_BLOCKS)
+    reader.take_main()
     if not reader.is_over():
         raise NoProgram("a line stands behind the rows of main")
-    check_calls(reader.rows, reader.counts)
-    return Program(lines, reader.rows)
+    check_calls(reader.rows, reader.heads)
+    return Program(lines, reader.rows, reader.blocks, reader.heads)
 
 
-def check_calls(rows, counts):
+def check_calls(rows, heads):
     for row in rows.values():
-        # A function that isn't there has no count, so no call fits it.
-        if row.kind == "call" and counts.get(row.names[1]) != len(row.exprs):
+        if row.kind == "call" and (row.names[1] not in heads or len(heads[row.names[1]]) != len(row.exprs)):
             raise NoProgram("a call fits no function")
+
+
+def followers(blocks):
+    follows = {}
+    for numbers in blocks.values():
+        for one, other in zip(numbers, numbers[1:]):
+            follows[one] = other
+    return follows

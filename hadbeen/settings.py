@@ -26,6 +26,12 @@ class Setting:
     def holds(self, place):
         return self.placed.get(place, 0)
 
+    def again(self):
+        return Setting(self.program, self.placed, self.bound, self.ways)
+
+    def way_of(self, address, looked):
+        return self.ways.get(address, looked)
+
     def changed(self, change):
         kind = key_of(change)[0]
         if kind == "start":

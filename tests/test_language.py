@@ -104,6 +104,30 @@ class TreesTest(unittest.TestCase):
             if isinstance(node, ast.Compare) and any(isinstance(op, (ast.Is, ast.IsNot)) for op in node.ops):
                 self.assertIn(ast.unparse(node.comparators[0]), ("None", "True", "False"), where)
 
+    def test_what_is_walked_is_walked_at_once(self):
+        for path, tree in trees():
+            above = {child: node for node in ast.walk(tree) for child in ast.iter_child_nodes(node)}
+            for node in ast.walk(tree):
+                if is_walk(node):
+                    self.assertTrue(walks_at_once(above[node], node), f"{path.name}:{node.lineno}")
+
+    def test_sets_are_not_kept(self):
+        for path, tree in trees():
+            above = {child: node for node in ast.walk(tree) for child in ast.iter_child_nodes(node)}
+            for node in ast.walk(tree):
+                self.assertNotIsInstance(node, ast.Set, path.name)
+                if isinstance(node, ast.Call) and called(node) in ("set", "frozenset"):
+                    outer = above[node]
+                    self.assertTrue(isinstance(outer, ast.Compare) or called(outer) in ("sorted", "len"),
+                                    f"{path.name}:{node.lineno}")
+
+    def test_keywords(self):
+        allowed = {"sorted": {"key", "reverse"}, "min": {"key", "default"}, "max": {"key", "default"},
+                   "sum": {"start"}, "enumerate": {"start"}, "zip": {"strict"}}
+        for where, node in nodes():
+            if isinstance(node, ast.Call):
+                self.assertLessEqual({word.arg for word in node.keywords}, allowed.get(called(node), set()), where)
+
     def test_functions(self):
         for where, node in nodes():
             if isinstance(node, ast.FunctionDef):
@@ -193,6 +217,28 @@ class NamesTest(unittest.TestCase):
             if isinstance(node, ast.Attribute) and isinstance(node.ctx, ast.Store):
                 values.add(node.attr)
         self.assertEqual(methods & values, set())
+
+
+def called(node):
+    return node.func.id if isinstance(node, ast.Call) and isinstance(node.func, ast.Name) else None
+
+
+def is_walk(node):
+    if not isinstance(node, ast.Call):
+        return False
+    if isinstance(node.func, ast.Attribute):
+        return node.func.attr in ("items", "keys", "values")
+    return called(node) in ("zip", "enumerate", "reversed", "range")
+
+
+def walks_at_once(outer, node):
+    if isinstance(outer, (ast.For, ast.comprehension)):
+        return outer.iter is node
+    if not isinstance(outer, ast.Call) or outer.args[:1] != [node]:
+        return False
+    if called(outer) in ("min", "max"):
+        return len(outer.args) == 1
+    return called(outer) in ("list", "tuple", "dict", "sorted", "sum", "any", "all", "enumerate", "zip")
 
 
 def is_docstring(node):

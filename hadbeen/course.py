@@ -32,6 +32,17 @@ def call_of_give(address):
     return address[:-2]
 
 
+def changed_line(one, other, address):
+    """The number of the line that reads otherwise in two programs, of a give perhaps its call's; None where none."""
+    numbers = [line_of(address)]
+    if row_of(one, address).kind == "give":
+        numbers.append(line_of(call_of_give(address)))
+    for number in numbers:
+        if one.given[number] != other.given[number]:
+            return number
+    return None
+
+
 def first_address(program):
     number = program.first_row(MAIN)
     return None if number is None else address_at(program, (), number)

@@ -1,6 +1,6 @@
 """What would have been: the run of a changed setting, made out of an old run, and the book of what was kept."""
 
-from hadbeen.course import call_of_give, line_of, row_of
+from hadbeen.course import changed_line
 from hadbeen.parts import has_part, is_whole, outside, part_moments
 from hadbeen.runs import Walk
 
@@ -61,14 +61,7 @@ class Redo:
         return self.walk.setting.way_of(moment.address, moment.looked) == moment.goes
 
     def has_same_lines(self, moment):
-        if not self.is_same_line(line_of(moment.address)):
-            return False
-        if row_of(self.old.setting.program, moment.address).kind != "give":
-            return True
-        return self.is_same_line(line_of(call_of_give(moment.address)))
-
-    def is_same_line(self, number):
-        return self.old.setting.program.given[number] == self.walk.setting.program.given[number]
+        return changed_line(self.old.setting.program, self.walk.setting.program, moment.address) is None
 
     def entry(self, kind):
         """The entry of this kind, where it may be written now."""

@@ -43,6 +43,9 @@ class Run:
             raise NoMoment("the run has no moment at this address")
         return found.told()
 
+    def again(self):
+        return Run(self.setting, self.passed, self.ending)
+
     def found(self, address):
         return self.passed[self.numbers[address]] if address in self.numbers else None
 

@@ -242,6 +242,55 @@ def naive_fault(old, new, book):
     return None if number == len(new.moments) else len(book)
 
 
+def naive_leads(run, address):
+    found = []
+    for lead in run.addresses():
+        upto = len(lead)
+        if run.kind(lead) in ("if", "call"):
+            leads = address[:upto] == lead
+        elif run.kind(lead) == "while":
+            leads = address[:upto - 1] == lead[:-1] and lead[-1] <= address[upto - 1]
+        else:
+            leads = False
+        if leads and lead != address:
+            found.append(lead)
+    return found
+
+
+def naive_why(one, other, address):
+    """None where neither run has the address."""
+    here, there = ([moment for moment in run.moments if moment[0] == address] for run in (one, other))
+    if not here and not there:
+        return None
+    if here and there:
+        return ("alike",) if here == there else naive_unlike(one, other, here[0], there[0])
+    having, lacking = (one, other) if here else (other, one)
+    for lead in naive_leads(having, address):
+        goes = [moment[5] for moment in having.moments if moment[0] == lead]
+        if goes != [moment[5] for moment in lacking.moments if moment[0] == lead]:
+            return ("gone" if here else "fresh", lead)
+        line = having.line(lead)
+        if having.kind(lead) == "call" and having.lines[line].split(" ")[2] != lacking.lines[line].split(" ")[2]:
+            return ("row", line)
+    return ("ended", lacking.last_end)
+
+
+def naive_unlike(one, other, here, there):
+    address = here[0]
+    lines = [one.line(address)] + ([address[-3]] if one.kind(address) == "give" else [])
+    for line in lines:
+        if one.lines[line] != other.lines[line]:
+            return ("row", line)
+    for number, (place, value) in enumerate(here[1]):
+        if there[1][number] != (place, value):
+            makers = []
+            for run in (one, other):
+                made = [moment[0] for moment in run.moments if moment[0] < address and place in dict(moment[2])]
+                makers.append(made[-1] if made else None)
+            return ("read", place, value, there[1][number][1]) + tuple(makers)
+    return ("goes",)
+
+
 class Maker:
     """Programs, settings and changes out of a seed."""
 
